@@ -1,0 +1,1 @@
+"""Latewrite: hands whose writes come late."""

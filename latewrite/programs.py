@@ -1,0 +1,49 @@
+"""Programs: their points, the names in them, and which of them are small."""
+
+from latewrite.deeds import cup_of, guard_of, is_read, is_write, place_of
+
+SMALL_HANDS = 4
+SMALL_POINTS = 6
+SMALL_DEEDS = 12
+
+
+def point_deeds(hand):
+    # Fences and bars are left out here, so that putting them in moves no point.
+    return [deed for deed in hand if is_write(deed) or is_read(deed)]
+
+
+def points(program):
+    found = []
+    for h, hand in enumerate(program):
+        found.extend([(h, k) for k in range(len(point_deeds(hand)))])
+    return found
+
+
+def deed_at(program, point):
+    h = point[0]
+    k = point[1]
+    # Python would count a number below nought from a list's end.
+    if h < 0 or k < 0 or h >= len(program):
+        return None
+    deeds = point_deeds(program[h])
+    return deeds[k] if k < len(deeds) else None
+
+
+def places(program):
+    named = []
+    for hand in program:
+        named.extend([place_of(deed) for deed in point_deeds(hand)])
+    return sorted(set(named))
+
+
+def cups(program, h):
+    guards = [guard_of(deed) for deed in program[h]]
+    asked = [guard[1] for guard in guards if guard is not None]
+    filled = [cup_of(deed) for deed in program[h] if is_read(deed)]
+    return sorted(set(asked + filled))
+
+
+def is_small(program):
+    if len(program) > SMALL_HANDS or len(points(program)) > SMALL_POINTS:
+        return False
+    return sum([len(hand) for hand in program]) <= SMALL_DEEDS
