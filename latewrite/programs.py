@@ -1,6 +1,6 @@
 """Programs: their points, the names in them, and which of them are small."""
 
-from latewrite.deeds import cup_of, guard_of, is_read, is_write, place_of
+from latewrite.deeds import cup_of, guard_of, is_read, is_write, number_of, place_of
 
 SMALL_HANDS = 4
 SMALL_POINTS = 6
@@ -10,6 +10,17 @@ SMALL_DEEDS = 12
 def point_deeds(hand):
     # Fences and bars are left out here, so that putting them in moves no point.
     return [deed for deed in hand if is_write(deed) or is_read(deed)]
+
+
+# Of each deed the number of the hand's points ahead of it, whether they are done or not, and the deed.
+def numbered(hand):
+    pairs = []
+    k = 0
+    for deed in hand:
+        pairs.append((k, deed))
+        if place_of(deed) is not None:
+            k += 1
+    return pairs
 
 
 def points(program):
@@ -27,6 +38,11 @@ def deed_at(program, point):
         return None
     deeds = point_deeds(program[h])
     return deeds[k] if k < len(deeds) else None
+
+
+def number_at(program, source):
+    # Where nothing has written, there is the 0 that all places begin with.
+    return 0 if source is None else number_of(deed_at(program, source))
 
 
 def places(program):
