@@ -5,12 +5,7 @@ from latewrite.errors import NoTale
 from latewrite.rules import edges
 from latewrite.texts import read
 
-SLACKS = (0, 1, 2)
-
-
-def tale_of(froms, lines):
-    """froms: a dict of sources by readers; lines: a dict of lists by places."""
-    return (sorted(froms.items(), key=lambda pair: pair[0]), sorted(lines.items()))
+from helping import SLACKS, tale_of
 
 
 class Rules(unittest.TestCase):
