@@ -1,6 +1,7 @@
 """Programs: their points, the names in them, and which of them are small."""
 
 from latewrite.deeds import cup_of, guard_of, is_read, is_write, number_of, place_of
+from latewrite.errors import TooGreat
 
 SMALL_HANDS = 4
 SMALL_POINTS = 6
@@ -63,3 +64,8 @@ def is_small(program):
     if len(program) > SMALL_HANDS or len(points(program)) > SMALL_POINTS:
         return False
     return sum([len(hand) for hand in program]) <= SMALL_DEEDS
+
+
+def refuse_great(program):
+    if not is_small(program):
+        raise TooGreat("the program is not small")

@@ -1,14 +1,13 @@
 """Search: all tales that the runs of a small program have."""
 
-from latewrite.errors import TooGreat
 from latewrite.machines import Late, machine
-from latewrite.programs import is_small
+from latewrite.programs import refuse_great
+from latewrite.tales import kept_key
 
 
 # Machines that have done all quiet deeds and have the same tale so far stand alike: so one of them is followed.
 def tales(program, slack=2):
-    if not is_small(program):
-        raise TooGreat("the tales of a small program alone are told")
+    refuse_great(program)
     found = []
     seen = {}
     rest = [quieted(machine(program, slack), [])]
@@ -23,10 +22,6 @@ def tales(program, slack=2):
             found.append((one.tale(), pair[1]))
         rest.extend([gone_on(one, pair[1], move) for move in one.moves()])
     return found
-
-
-def kept_key(tale):
-    return (tuple(tale[0]), tuple([tuple(line) for place, line in tale[1]]))
 
 
 def gone_on(one, moves, move):

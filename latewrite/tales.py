@@ -103,3 +103,8 @@ def cups_with(program, h, has):
 
 def last_of(line):
     return line[-1] if line != [] else None
+
+
+# A tale as a dict's key. Of one program the places are always the same: so they are left out.
+def kept_key(tale):
+    return (tuple(tale[0]), tuple([tuple(line) for place, line in tale[1]]))

@@ -7,7 +7,7 @@ from latewrite.rules import edges
 from latewrite.tales import points_of
 from latewrite.texts import read
 
-from helping import GREAT, SLACKS, TEXTS, ends_of, keeps, some_run, tale_of, whole_tales
+from helping import GREAT, SLACKS, TEXTS, ends_of, is_ring, keeps, some_run, tale_of, whole_tales
 
 BY_ALL = ["order", "order", "order"]
 BY_LATE = ["ring", "order", "order"]
@@ -30,15 +30,8 @@ class Judge(unittest.TestCase):
             self.assertTrue(keeps(answer[1], found))
         else:
             self.assertEqual(answer[0], "ring")
-            self.is_ring(answer[1], found)
+            is_ring(self, answer[1], found)
         return answer[0]
-
-    def is_ring(self, steps, found):
-        self.assertGreater(len(steps), 1)
-        self.assertEqual([type(step) for step in steps], [tuple] * len(steps))
-        self.assertEqual(len({point for point, word in steps}), len(steps))
-        for (point, word), (other, other_word) in zip(steps, steps[1:] + steps[:1]):
-            self.assertIn((point, other, word), found)
 
     def judge(self, text, froms, lines, wanted):
         """wanted: the words by each slack."""

@@ -2,12 +2,11 @@ import copy
 import unittest
 
 from latewrite.errors import NoMove, NotEnded
-from latewrite.machines import machine
 from latewrite.orders import tale_by
 from latewrite.runs import order_by, walked
 from latewrite.texts import read
 
-from helping import GREAT, SLACKS, TEXTS, some_run, tale_of
+from helping import GREAT, SLACKS, TEXTS, came, some_run, tale_of
 
 
 def do(*hands):
@@ -104,25 +103,9 @@ class Walked(Runs):
                         moves, tale = some_run(program, slack, turn)
                         kept = copy.deepcopy((program, moves))
                         self.assertEqual(walked(program, moves, slack), tale)
-                        self.assertEqual(order_by(program, moves, slack), self.came(program, moves, slack))
+                        self.assertEqual(order_by(program, moves, slack), came(program, moves, slack))
                         self.assertEqual(tale_by(program, order_by(program, moves, slack), slack), tale)
                         self.assertEqual((program, moves), kept)
-
-    def came(self, program, moves, slack):
-        """The points as they came to the places, told by the kinds of the deeds."""
-        one = machine(program, slack)
-        order = []
-        for move in moves:
-            h = move[1]
-            if move[0] == "do":
-                k, deed = one.due(h)
-                one.do(move)
-                if deed[0] in ("get", "swap") or deed[0] == "put" and slack == 0:
-                    order.append((h, k))
-            else:
-                one.do(move)
-                order.append(one.line(move[2])[-1])
-        return order
 
     def test_what_was_told_is_the_askers_own(self):
         program = read(self.TEXT)

@@ -1,39 +1,21 @@
-import copy
-import time
 import unittest
 
-from latewrite.errors import TooGreat
 from latewrite.judge import judged
 from latewrite.orders import tale_by
-from latewrite.programs import is_small, points
+from latewrite.programs import points
 from latewrite.runs import order_by, walked
 from latewrite.search import tales
 from latewrite.texts import read
 
-from helping import SLACKS, TEXTS, ends_of
-
-# At the bounds of what is small: four hands, six points, twelve deeds.
-BOUNDS = [
-    "put x 1; bar; get a x | put x 2; fence; get b x; bar | bar; put x 3; fence | bar; get c x",
-    "bar; swap a x 1; fence; swap b x 2 | bar; swap a x 3; swap b x 4; fence | fence; swap a x 5 | swap a x 6; bar",
-    "swap a x 1; put x 1; bar | bar; put x 2; bar; get a x | fence; put x 2; bar | get a x; fence",
-    "put x 1; put y 1; put z 1; bar; bar; fence | bar; bar; get a z; get b y; get c x; bar | idle | idle",
-    "put x 1; put y 1; bar | bar; put y 2; put x 2; bar | fence; put x 3; bar | put y 3; fence",
-    "get a x; bar; put y 1 when a 0 | get a y; put x 2 unless a 1; bar | bar; put x 1; bar | fence; put y 3; fence",
-    "put v 1; bar; put w 2; put x 3; put y 4; bar; put z 5; get a v; fence; bar; fence; bar | idle | idle | idle",
-]
+from helping import BOUNDS, SLACKS, TEXTS, answered, barred, ends_of, own_lists_of_all, refuses_great
+from helping import within_seconds
 
 
 class Search(unittest.TestCase):
     def told(self, program, *slack):
         """What is told, once it is sure that each tale is there once, with a run of it."""
-        kept = copy.deepcopy(program)
-        answer = tales(program, *slack)
-        self.assertEqual(program, kept)
-        self.assertIs(type(answer), list)
-        for pair in answer:
-            self.assertIs(type(pair), tuple)
-            tale, moves = pair
+        answer = answered(self, tales, program, *slack)
+        for tale, moves in answer:
             self.assertIs(type(moves), list)
             self.assertEqual(walked(program, moves, *slack), tale)
             self.assertEqual(tale_by(program, order_by(program, moves, *slack), *slack), tale)
@@ -59,12 +41,7 @@ class Told(Search):
                     self.assertEqual(self.told(program, slack), sorted(ends_of(program, slack)))
 
     def test_at_the_bounds_within_seconds(self):
-        for text in BOUNDS:
-            for slack in SLACKS:
-                with self.subTest(text=text, slack=slack):
-                    start = time.process_time()
-                    tales(read(text), slack)
-                    self.assertLess(time.process_time() - start, 5)
+        within_seconds(self, tales, BOUNDS)
 
     def test_counted_by_hand(self):
         def many(text):
@@ -111,11 +88,9 @@ class Told(Search):
                     self.assertEqual(self.told(program, slack), sorted(wanted))
 
     def test_a_bar_ahead_of_each_put_tells_as_less_slack(self):
-        for text in TEXTS:
-            program = read(text.replace("put", "bar; put"))
-            if is_small(program):
-                with self.subTest(text):
-                    self.assertEqual(self.told(program, 2), self.told(program, 1))
+        for program in barred():
+            with self.subTest(program):
+                self.assertEqual(self.told(program, 2), self.told(program, 1))
 
     def test_a_fence_or_bar_more_adds_no_tale(self):
         for text in TEXTS:
@@ -133,59 +108,10 @@ class Told(Search):
                     yield program[:h] + [hand[:at] + [(word, None)] + hand[at:]] + program[h + 1:]
 
     def test_what_was_told_stays(self):
-        program = read("put x 1; get a y | put y 1; get b x")
-        for slack in SLACKS:
-            with self.subTest(slack):
-                first = tales(program, slack)
-                kept = copy.deepcopy(first)
-                again = tales(program, slack)
-                for (froms, lines), moves in again:
-                    for place, line in lines:
-                        line.append((7, 7))
-                    froms.clear()
-                    lines.clear()
-                    moves.clear()
-                again.clear()
-                self.assertEqual(first, kept)
-                self.assertEqual(self.told(program, slack), sorted(repr(tale) for tale, moves in kept))
+        own_lists_of_all(self, tales, TEXTS + BOUNDS)
 
-    def test_no_list_stands_twice_in_what_was_told(self):
-        for text in ("put x 1; get a y | put y 1; get b x", "fence; get a x | get b y", BOUNDS[0]):
-            for slack in SLACKS:
-                with self.subTest(text=text, slack=slack):
-                    lists = []
-                    for (froms, lines), moves in tales(read(text), slack):
-                        lists.extend([froms, lines, moves] + [line for place, line in lines])
-                    self.assertEqual(len({id(one) for one in lists}), len(lists))
-
-
-class Refused(Search):
-    def refused(self, program):
-        kept = copy.deepcopy(program)
-        for slack in ((0,), (1,), (2,), ()):
-            with self.subTest(program=program, slack=slack):
-                with self.assertRaises(TooGreat):
-                    tales(program, *slack)
-                self.assertEqual(program, kept)
-
-    def test_more_than_four_hands(self):
-        self.refused([[]] * 5)
-        self.refused(read("put x 1 | get a x | idle | idle | idle"))
-        self.refused([[]] * 6)
-
-    def test_more_than_six_points(self):
-        self.refused(read("; ".join(["put x 1"] * 7)))
-        self.refused(read("get a x; get a x | get a x; get a x | swap a x 1; swap a x 1 | put x 1"))
-        # Points that are passed over count, too.
-        self.refused(read("; ".join(["put x 1"] * 6) + "; put x 1 when a 1"))
-
-    def test_more_than_twelve_deeds(self):
-        self.refused(read("; ".join(["fence"] * 13)))
-        self.refused(read("; ".join(["bar"] * 7) + " | " + "; ".join(["get a x"] * 6)))
-        self.refused(read("; ".join(["fence when a 1"] * 12) + " | bar"))
-
-    def test_far_beyond(self):
-        self.refused(read(" | ".join(["; ".join(["put x 1; get a y"] * 3)] * 6)))
+    def test_what_is_not_small(self):
+        refuses_great(self, tales)
 
 
 if __name__ == "__main__":
